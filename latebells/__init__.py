@@ -1,0 +1,1 @@
+"""Latebells: many clocks that run, and ring."""
