@@ -97,6 +97,31 @@ def days_gone(clock, moment):
     return max(0, (moment - clock[1]) // DAY + 1)
 
 
+# Reckoned from behind: up to now it may have rung more often than can be walked.
+def last_ring(clock, now):
+    if clock[0] == "alarm":
+        return last_of_alarm(clock, now)
+    rung = rung_by(clock, now)
+    if rung == 0:
+        return None
+    if clock[0] == "timer":
+        return clock[3] + clock[2]
+    return clock[1] + (rung - 1) * clock[2]
+
+
+def last_of_alarm(clock, now):
+    moment = last_set(clock, now)
+    while moment is not None and stands_in(clock[3], moment):
+        moment = last_set(clock, moment - 1)
+    return moment
+
+
+def last_set(clock, now):
+    gone = days_gone(clock, now)
+    days = [day for day in range(max(0, gone - WEEK), gone) if day % WEEK in clock[2]]
+    return days[-1] * DAY + clock[1] if days else None
+
+
 def rings(clock, start, end):
     first = next_ring(clock, start)
     if first is None or first > end:
@@ -104,14 +129,8 @@ def rings(clock, start, end):
     if clock[0] == "timer":
         return [first]
     if clock[0] == "every":
-        return list(range(first, last_of_every(clock, end) + 1, clock[2]))
+        return list(range(first, last_ring(clock, end) + 1, clock[2]))
     return rings_of_alarm(clock, first, end)
-
-
-def last_of_every(clock, end):
-    if clock[3] is None:
-        return end
-    return min(end, clock[1] + (clock[3] - 1) * clock[2])
 
 
 def rings_of_alarm(clock, first, end):

@@ -1,4 +1,4 @@
-"""What watches and clocks both ask of whole numbers, and of tuples of them."""
+"""What several parts of the program ask of whole numbers, of tuples of them, and of moments."""
 
 from latebells.errors import Early
 
@@ -43,6 +43,6 @@ def stands_in(rising, number):
 
 
 # The words name no number: Python refuses to write out a very long one.
-def refuse_early(since, now):
-    if since is not None and now < since:
-        raise Early("the moment is less than that since which it runs")
+def refuse_early(earlier, now):
+    if earlier is not None and now < earlier:
+        raise Early("the moment is less than one that was told of before")

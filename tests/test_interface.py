@@ -3,20 +3,36 @@
 import inspect
 import unittest
 
-from latebells import clocks, watches
+from latebells import bells, clocks, houses, paces, rounds, watches
 
 WATCHES = {"is_watch": 1, "fresh": 0, "shown": 2, "started": 2, "halted": 2, "lapped": 2, "cleared": 2, "lap_sizes": 1,
            "fastest": 1, "when_shown": 2, "played": 1}
 CLOCKS = {"is_clock": 1, "timer": 1, "left_at": 2, "begun": 2, "stopped": 2, "longer": 3, "anew": 2, "next_ring": 2,
           "rings": 3, "how_many": 3, "skipped": 2}
+ROUNDS = {"round_size": 1, "whole_size": 2, "place_at": 3, "left_of_phase": 3, "starts": 2, "when": 3, "time_in": 4}
+PACES = {"reads": 2, "floor_read": 2, "gap": 3, "meet": 2, "first_showing": 2, "set_to": 3, "faster": 4}
+# How many arguments a method has beside its object.
+BELL = {"ring": 1, "silence": 1, "put_off": 2, "state": 1, "heard": 0, "loud": 0}
+HOUSE = {"put": 2, "drop": 1, "clock": 1, "names": 0, "tick": 1, "moment": 0, "sleep": 0, "wake": 1, "next_due": 0}
 
 
 class Interface(unittest.TestCase):
+    def check(self, holder, rows):
+        for name, many in rows.items():
+            with self.subTest((holder, name)):
+                self.assertEqual(len(inspect.signature(getattr(holder, name)).parameters), many)
+
     def test_functions_with_their_arguments(self):
-        for module, rows in ((watches, WATCHES), (clocks, CLOCKS)):
-            for name, many in rows.items():
-                with self.subTest((module.__name__, name)):
-                    self.assertEqual(len(inspect.signature(getattr(module, name)).parameters), many)
+        self.check(watches, WATCHES)
+        self.check(clocks, CLOCKS)
+        self.check(rounds, ROUNDS)
+        self.check(paces, PACES)
+
+    def test_classes_with_their_arguments(self):
+        self.check(bells, {"Bell": 1})
+        self.check(bells.Bell(1), BELL)
+        self.check(houses, {"House": 1})
+        self.check(houses.House(0), HOUSE)
 
 
 if __name__ == "__main__":

@@ -25,6 +25,10 @@ METHODS = set(
     "items join keys ljust lower lstrip partition pop remove replace reverse rfind rjust rpartition rsplit rstrip "
     "setdefault split splitlines startswith strip update upper values zfill bit_length".split())
 DUNDERS = {"__init__", "__eq__", "__repr__", "__str__", "__len__"}
+# Names of Python's own values that methods, and values of objects, may have all the same.
+METHODS_LIKE_OWN = METHODS | {"add", "discard"}
+VALUES_LIKE_OWN = set("count index title find get join lower upper split strip copy add".split())
+NAMES_OF_OWN = {name for kind in (str, int, list, tuple, dict, set, frozenset, bytes, bytearray) for name in dir(kind)}
 WORDS = re.compile(
     r"\b(type|typing|typing_extensions|enum|Enum|IntEnum|StrEnum|Flag|IntFlag|Generic|Protocol|ABC|ABCMeta|namedtuple"
     r"|NamedTuple|TypedDict|TYPE_CHECKING|abstractmethod)\b|dataclass|overload|contextmanager")
@@ -50,6 +54,19 @@ def bound_names(tree):
         elif isinstance(node, ast.Attribute):
             told.append(node.attr)
     return told
+
+
+def classes():
+    return [(name, node) for name, tree in trees() for node in tree.body if isinstance(node, ast.ClassDef)]
+
+
+def stored_values():
+    return {node.attr for name, tree in trees() for node in ast.walk(tree)
+            if isinstance(node, ast.Attribute) and isinstance(node.ctx, ast.Store)}
+
+
+def drawn_from(tree):
+    return [node.module.split(".")[1] + ".py" for node in tree.body if isinstance(node, ast.ImportFrom)]
 
 
 class Language(unittest.TestCase):
@@ -117,6 +134,28 @@ class Language(unittest.TestCase):
                     for one in node.names:
                         self.assertIn(one.name, defined, name)
                         self.assertIsNone(one.asname, name)
+
+    def test_no_two_files_draw_from_one_another(self):
+        rows = {name: drawn_from(tree) for name, tree in trees()}
+        while rows:
+            free = [name for name in rows if not any(home in rows for home in rows[name])]
+            self.assertNotEqual(free, [], sorted(rows))
+            rows = {name: rows[name] for name in rows if name not in free}
+
+    def test_classes_hold_methods_alone(self):
+        for name, node in classes():
+            self.assertLessEqual(len(node.bases), 1, (name, node.name))
+            self.assertEqual(node.keywords + node.decorator_list, [], (name, node.name))
+            methods = [one.name for one in node.body if isinstance(one, ast.FunctionDef)]
+            self.assertEqual(len(methods), len(set(methods)), (name, node.name))
+            for one in node.body:
+                self.assertIsInstance(one, (ast.FunctionDef, ast.Pass), (name, node.name))
+
+    def test_methods_and_values_of_objects(self):
+        methods = {one.name for name, node in classes() for one in node.body if isinstance(one, ast.FunctionDef)}
+        self.assertEqual(methods & stored_values(), set())
+        self.assertEqual((methods - DUNDERS) & NAMES_OF_OWN - METHODS_LIKE_OWN, set())
+        self.assertEqual(stored_values() & NAMES_OF_OWN - VALUES_LIKE_OWN, set())
 
     def test_names(self):
         for name, tree in trees():

@@ -2,7 +2,7 @@
 
 import unittest
 
-from latebells.clocks import how_many, is_clock, next_ring, rings, skipped
+from latebells.clocks import how_many, is_clock, last_ring, next_ring, rings, skipped
 
 DAY = 1440
 ALL_DAYS = (0, 1, 2, 3, 4, 5, 6)
@@ -227,6 +227,25 @@ class ToldLists(unittest.TestCase):
             kept = list(told)
             told.append(-1)
             self.assertEqual(rings(clock, 0, 500), kept)
+
+
+# Not of the document's interface: what a house asks behind a sleep.
+class LastRing(unittest.TestCase):
+    def test_of_clocks_that_did_not_ring_yet(self):
+        for clock in (("timer", 5, 5, 0), ("timer", 5, 5, None), ("every", 5, 1, None), ("every", 0, 1, 0),
+                      ("alarm", 5, (0,), ()), ("alarm", 0, (1,), ()), ("alarm", 0, (), ()), ("alarm", 0, (0,), (0,))):
+            self.assertIsNone(last_ring(clock, 4))
+
+    def test_of_clocks_that_did(self):
+        self.assertEqual([last_ring(("timer", 5, 5, 0), now) for now in (5, 6, 99)], [5, 5, 5])
+        self.assertEqual([last_ring(("every", 5, 2, 2), now) for now in (5, 6, 7, 99)], [5, 5, 7, 7])
+        self.assertEqual([last_ring(("every", 5, 2, None), now) for now in (5, 6, 7, 99)], [5, 5, 7, 99])
+        self.assertEqual([last_ring(("alarm", 5, (0, 2), ()), now) for now in (5, 2884, 2885, 9999)],
+                         [5, 5, 2885, 2885])
+
+    def test_of_an_alarm_that_was_still(self):
+        self.assertEqual(last_ring(("alarm", 5, (0, 2), (2885,)), 9999), 5)
+        self.assertIsNone(last_ring(("alarm", 5, (0, 2), (5, 2885)), 9999))
 
 
 if __name__ == "__main__":
