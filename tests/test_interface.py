@@ -3,7 +3,7 @@
 import inspect
 import unittest
 
-from latebells import bells, clocks, houses, paces, rounds, watches
+from latebells import bells, clocks, houses, logs, paces, rounds, texts, turns, watches
 
 WATCHES = {"is_watch": 1, "fresh": 0, "shown": 2, "started": 2, "halted": 2, "lapped": 2, "cleared": 2, "lap_sizes": 1,
            "fastest": 1, "when_shown": 2, "played": 1}
@@ -11,9 +11,12 @@ CLOCKS = {"is_clock": 1, "timer": 1, "left_at": 2, "begun": 2, "stopped": 2, "lo
           "rings": 3, "how_many": 3, "skipped": 2}
 ROUNDS = {"round_size": 1, "whole_size": 2, "place_at": 3, "left_of_phase": 3, "starts": 2, "when": 3, "time_in": 4}
 PACES = {"reads": 2, "floor_read": 2, "gap": 3, "meet": 2, "first_showing": 2, "set_to": 3, "faster": 4}
+TEXTS = {"time_text": 1, "read_time": 1, "about": 1, "laps_text": 1, "read_laps": 1}
 # How many arguments a method has beside its object.
 BELL = {"ring": 1, "silence": 1, "put_off": 2, "state": 1, "heard": 0, "loud": 0}
 HOUSE = {"put": 2, "drop": 1, "clock": 1, "names": 0, "tick": 1, "moment": 0, "sleep": 0, "wake": 1, "next_due": 0}
+LOG = {"tell": 2, "untell": 1, "move": 2, "deeds": 0, "watch_at": 1, "shown_at": 1, "runs": 0, "ran": 2}
+TURNS = {"begin": 2, "press": 1, "left_of": 2, "fell": 1, "running": 1, "turns": 0}
 
 
 class Interface(unittest.TestCase):
@@ -27,12 +30,17 @@ class Interface(unittest.TestCase):
         self.check(clocks, CLOCKS)
         self.check(rounds, ROUNDS)
         self.check(paces, PACES)
+        self.check(texts, TEXTS)
 
     def test_classes_with_their_arguments(self):
         self.check(bells, {"Bell": 1})
         self.check(bells.Bell(1), BELL)
         self.check(houses, {"House": 1})
         self.check(houses.House(0), HOUSE)
+        self.check(logs, {"Log": 0})
+        self.check(logs.Log(), LOG)
+        self.check(turns, {"Turns": 3})
+        self.check(turns.Turns(1, 1, 0), TURNS)
 
 
 if __name__ == "__main__":

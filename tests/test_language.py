@@ -168,6 +168,14 @@ class Language(unittest.TestCase):
             used = {node.id for node in ast.walk(tree) if isinstance(node, ast.Name)}
             self.assertEqual(used - known, set(), name)
 
+    def test_no_parameter_or_local_is_called_like_a_class_or_an_import(self):
+        for name, tree in trees():
+            taken = {one.name for node in tree.body if isinstance(node, ast.ImportFrom) for one in node.names}
+            taken |= {node.name for node in tree.body if isinstance(node, ast.ClassDef)}
+            within = {node.arg for node in ast.walk(tree) if isinstance(node, ast.arg)}
+            within |= {node.id for node in ast.walk(tree) if isinstance(node, ast.Name) and isinstance(node.ctx, ast.Store)}
+            self.assertEqual(taken & within, set(), name)
+
     def test_each_name_of_a_top_is_bound_once(self):
         for name, tree in trees():
             bound = []
