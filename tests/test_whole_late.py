@@ -1,10 +1,14 @@
-"""Promise 0.2 (a) of logs, (h) and (i): what holds over all that is there; drawn cases, the same in each run."""
+"""Promise 0.2 (a) of logs, (h) to (k): what holds over all that is there; drawn cases, the same in each run."""
 
 import random
 import unittest
 
-from latebells.errors import NoClock, NoText
+from latebells.diaries import Diary
+from latebells.diarytexts import diary_text, read_diary
+from latebells.errors import NoClock, NoStep, NoText, Taken
+from latebells.freeing import first_free, most_at_once, shared_by
 from latebells.logs import Log
+from latebells.spells import (are_spells, between, both, either, gaps, is_in, later, length, only_first, spells_of)
 from latebells.texts import laps_text, read_laps, read_time, time_text
 from latebells.turns import Turns
 from latebells.watches import is_watch, lap_sizes, played, shown
@@ -134,7 +138,7 @@ class Texts(unittest.TestCase):
     # Reads texts that are one sign off a writing: each is a writing itself, or refused.
     def check_nearly(self, draw, text, read, write):
         for _ in range(25):
-            place, sign = draw.randint(0, len(text)), draw.choice("0123456789: -+az~\n")
+            place, sign = draw.randint(0, len(text)), draw.choice("0123456789: -+abz~\n")
             near = draw.choice((text[:place] + sign + text[place:], text[:place] + sign + text[place + 1:],
                                 text[:place] + text[place + 1:], text[place:] + text[:place]))
             try:
@@ -160,6 +164,152 @@ class Texts(unittest.TestCase):
             sizes = [draw.randint(0, 10 ** draw.randint(0, 9)) for _ in range(draw.randint(0, 12))]
             self.assertEqual(read_laps(laps_text(sizes)), sizes)
             self.check_nearly(draw, laps_text(sizes), read_laps, laps_text)
+
+    def test_diaries_read_back_as_what_they_write_and_as_nothing_else(self):
+        draw = random.Random(26)
+        for _ in range(500):
+            diary = Diary()
+            cuts = sorted(draw.sample(range(10 ** draw.randint(2, 9)), 2 * draw.randint(0, 4)))
+            for start, till in zip(cuts[::2], cuts[1::2]):
+                diary.add("".join(draw.choices("abz", k=draw.randint(1, 4))), start, till)
+            told = read_diary(diary_text(diary))
+            self.assertEqual((told.stretches(), told.counts()), (diary.stretches(), (0, 0)))
+            self.check_nearly(draw, diary_text(diary), read_diary, diary_text)
+
+
+class Spells(unittest.TestCase):
+    def drawn(self, draw):
+        cuts = sorted(draw.sample(range(40), 2 * draw.randint(0, 6)))
+        return list(zip(cuts[::2], cuts[1::2]))
+
+    def check(self, told, moments):
+        self.assertIs(are_spells(told), True)
+        self.assertEqual([moment for moment in range(90) if is_in(told, moment)], sorted(moments))
+        self.assertEqual(length(told), len(moments))
+
+    def moments(self, spells):
+        return {moment for start, till in spells for moment in range(start, till)}
+
+    def test_a_moment_is_in_spells_put_together_just_if_it_is_as_told(self):
+        draw = random.Random(27)
+        for _ in range(500):
+            one, other = self.drawn(draw), self.drawn(draw)
+            self.check(one, self.moments(one))
+            have, others = self.moments(one), self.moments(other)
+            self.check(either(one, other), have | others)
+            self.check(both(one, other), have & others)
+            self.check(only_first(one, other), have - others)
+            start, end = draw.randint(0, 42), draw.randint(0, 42)
+            self.check(between(one, start, end), have & set(range(start, end)))
+            self.check(later(one, start), {moment + start for moment in have})
+            self.check(gaps(one), set(range(min(have), max(have) + 1)) - have if have else set())
+
+    def drawn_rows(self, draw):
+        return [(draw.randint(0, 40), draw.randint(0, 40)) for _ in range(draw.randint(0, 8))]
+
+    def test_spells_of(self):
+        draw = random.Random(28)
+        for _ in range(500):
+            rows = self.drawn_rows(draw)
+            self.check(spells_of(rows), self.moments(rows))
+
+    def test_rows_of_spells(self):
+        draw = random.Random(29)
+        for _ in range(500):
+            rows = [spells_of(self.drawn_rows(draw)) for _ in range(draw.randint(0, 4))]
+            many = [sum(is_in(spells, moment) for spells in rows) for moment in range(60)]
+            most = max(many)
+            self.assertEqual(most_at_once(rows), (most, many.index(most)) if most else None)
+            for least in range(1, 6):
+                self.check(shared_by(rows, least), [moment for moment in range(60) if many[moment] >= least])
+            size, start = draw.randint(1, 12), draw.randint(0, 45)
+            free = [moment for moment in range(start, 48) if not any(many[moment:moment + size])]
+            self.assertEqual(first_free(rows, size, start), free[0])
+
+
+# A diary that keeps all that was there ahead of each step, as whole dicts by moments.
+class SlowDiary:
+    def __init__(self):
+        self.ahead, self.now, self.behind = [], {}, []
+
+    def step(self, word, there):
+        self.ahead.append((self.now, word))
+        self.now, self.behind = there, []
+
+    def back(self):
+        there, word = self.ahead.pop()
+        self.behind.append((self.now, word))
+        self.now = there
+        return word
+
+    def forth(self):
+        there, word = self.behind.pop()
+        self.ahead.append((self.now, word))
+        self.now = there
+        return word
+
+    def twin(self):
+        other = SlowDiary()
+        other.ahead, other.now, other.behind = list(self.ahead), self.now, list(self.behind)
+        return other
+
+
+class Diaries(unittest.TestCase):
+    def test_back_and_forth_step_by_step(self):
+        draw = random.Random(30)
+        for _ in range(100):
+            pairs = [(Diary(), SlowDiary())]
+            for _ in range(60):
+                self.do_one(draw, pairs)
+            for diary, slow in pairs:
+                self.check(draw, diary, slow)
+
+    def do_one(self, draw, pairs):
+        diary, slow = draw.choice(pairs)
+        word = draw.choice(("add", "add", "add", "cancel", "back", "back", "forth", "forth", "twin"))
+        start = draw.randint(0, 40)
+        if word == "add":
+            self.add_one(diary, slow, (draw.choice("abc"), start, start + draw.randint(1, 9)))
+        elif word == "cancel":
+            self.cancel_one(diary, slow, start)
+        elif word == "twin" and len(pairs) < 4:
+            pairs.append((diary.twin(), slow.twin()))
+        elif word in ("back", "forth"):
+            if slow.ahead if word == "back" else slow.behind:
+                self.assertEqual(getattr(diary, word)(), getattr(slow, word)())
+            else:
+                self.assertRaises(NoStep, getattr(diary, word))
+        self.assertEqual(diary.stretches(), sorted(set(slow.now.values()), key=lambda stretch: stretch[1]))
+        self.assertEqual(diary.counts(), (len(slow.ahead), len(slow.behind)))
+
+    def add_one(self, diary, slow, stretch):
+        moments = range(stretch[1], stretch[2])
+        if any(moment in slow.now for moment in moments):
+            self.assertRaises(Taken, diary.add, *stretch)
+        else:
+            diary.add(*stretch)
+            slow.step("add", slow.now | {moment: stretch for moment in moments})
+
+    def cancel_one(self, diary, slow, start):
+        stretch = slow.now.get(start)
+        if stretch is None or stretch[1] != start:
+            self.assertRaises(NoClock, diary.cancel, start)
+        else:
+            self.assertEqual(diary.cancel(start), stretch)
+            slow.step("cancel", {moment: own for moment, own in slow.now.items() if own != stretch})
+
+    def check(self, draw, diary, slow):
+        told = diary.stretches()
+        self.assertTrue(all(one[2] <= other[1] for one, other in zip(told, told[1:])))
+        for name in "abc":
+            spells = diary.spells_by(name)
+            self.assertIs(are_spells(spells), True)
+            self.assertEqual([moment for moment in range(60) if is_in(spells, moment)],
+                             sorted(moment for moment, own in slow.now.items() if own[0] == name))
+        size, start = draw.randint(1, 9), draw.randint(0, 50)
+        moment = diary.next_free(size, start)
+        for then in range(start, moment + 1):
+            self.assertIs(any(one in slow.now for one in range(then, then + size)), then < moment)
 
 
 if __name__ == "__main__":
