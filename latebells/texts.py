@@ -9,10 +9,21 @@ MOST_HOUR_FIGURES = 6
 
 
 def time_text(seconds):
-    hours = str(seconds // HOUR)
+    hours = figures_of(seconds // HOUR)
     minutes = two_figures(seconds % HOUR // MINUTE)
     rest = two_figures(seconds % MINUTE)
     return f"{hours}:{minutes}:{rest}"
+
+
+# Block by block, since Python refuses to write out a very long number; a written time has no bound.
+def figures_of(number):
+    left = number
+    blocks = []
+    while left >= 10 ** 64:
+        blocks.append(str(left % 10 ** 64).zfill(64))
+        left = left // 10 ** 64
+    blocks.append(str(left))
+    return "".join(reversed(blocks))
 
 
 def two_figures(number):
@@ -43,7 +54,7 @@ def are_figures(text):
 
 def about(seconds):
     if seconds >= HOUR:
-        return str(seconds // HOUR) + "h"
+        return figures_of(seconds // HOUR) + "h"
     if seconds >= MINUTE:
         return str(seconds // MINUTE) + "m"
     return str(seconds) + "s"

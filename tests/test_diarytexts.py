@@ -54,6 +54,13 @@ class Written(unittest.TestCase):
         self.assertEqual(diary_text(diary_with(*STRETCHES)), TEXT)
         self.assertEqual(diary_text(diary_with(*STRETCHES[::-1])), TEXT)
 
+    def test_times_of_very_many_figures_are_written_but_not_read(self):
+        hours = 10 ** 5000
+        text = LINE + "1" + "0" * 5000 + ":00:00-1" + "0" * 4999 + "1:01:01 bo\n"
+        diary = diary_with(("bo", hours * 3600, hours * 3600 + 3661), ("ann", 5, 60))
+        self.assertTrue(diary_text(diary) == text)
+        self.assertRaises(NoText, read_diary, text)
+
     def test_behind_steps(self):
         diary = diary_with(*STRETCHES)
         diary.back()

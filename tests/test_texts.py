@@ -21,6 +21,19 @@ NO_TIMES = (
     "a:07:05", "0:0a:05", "0:07:a5", "0:07:05a", "0x1:07:05", "1.5:07:05", "0,07,05", "0;07;05", "0-07-05", "0.07.05",
     "425", "7m", "about", "~", "!:07:05", "1e2:07:05",
 )
+# Python itself refuses to write out numbers of more than 4300 figures, and to read them.
+LONG_FIGURES = (
+    "9" * 63, "1" + "0" * 63, "9" * 64, "1" + "0" * 64, "1" + "0" * 63 + "1", "9" * 65, "1" + "0" * 127, "9" * 128,
+    "1" + "0" * 128, "12" + "0" * 100 + "34" + "0" * 100, "1234567890" * 13, "9" * 4300, "1" + "0" * 4300,
+    "9" * 4301, "1" + "0" * 4299 + "7", "1" + "0" * 5000, "1234567890" * 600, "7" + "0" * 3000 + "25" + "0" * 3000,
+)
+
+
+def number_of(figures):
+    number = 0
+    for figure in figures:
+        number = number * 10 + int(figure)
+    return number
 
 
 class Times(unittest.TestCase):
@@ -44,6 +57,14 @@ class Times(unittest.TestCase):
         self.assertEqual(time_text(3600000000), "1000000:00:00")
         self.assertEqual(time_text(10 ** 40 * 3600 + 61), "1" + "0" * 40 + ":01:01")
         self.assertRaises(NoText, read_time, time_text(3600000000))
+
+    def test_hours_of_very_many_figures_are_written_but_not_read(self):
+        for figures in LONG_FIGURES:
+            hours = number_of(figures)
+            for rest, end in ((0, ":00:00"), (425, ":07:05"), (3599, ":59:59")):
+                with self.subTest((figures, rest)):
+                    self.assertTrue(time_text(hours * 3600 + rest) == figures + end)
+                    self.assertRaises(NoText, read_time, figures + end)
 
     def test_no_text(self):
         for text in NO_TIMES:
@@ -71,6 +92,12 @@ class About(unittest.TestCase):
         for seconds, text in rows.items():
             with self.subTest(seconds):
                 self.assertEqual(about(seconds), text)
+
+    def test_hours_of_very_many_figures(self):
+        for figures in LONG_FIGURES:
+            for rest in (0, 59, 3599):
+                with self.subTest((figures, rest)):
+                    self.assertTrue(about(number_of(figures) * 3600 + rest) == figures + "h")
 
 
 NO_LAPS = (
@@ -111,6 +138,12 @@ class Laps(unittest.TestCase):
     def test_hours_of_seven_figures_are_written_but_not_read(self):
         self.assertEqual(laps_text([3600000000]), "1 1000000:00:00\n")
         self.assertRaises(NoText, read_laps, "1 1000000:00:00\n")
+
+    def test_hours_of_very_many_figures_are_written_but_not_read(self):
+        sizes = [number_of(figures) * 3600 + 5 for figures in LONG_FIGURES]
+        text = "".join(f"{place + 1} {figures}:00:05\n" for place, figures in enumerate(LONG_FIGURES))
+        self.assertTrue(laps_text(sizes) == text)
+        self.assertRaises(NoText, read_laps, text)
 
     def test_no_text(self):
         for text in NO_LAPS:
